@@ -1,0 +1,1 @@
+"""Fewopen: a hidden number in parts, and who may open it."""
