@@ -67,3 +67,40 @@ def some_rule(chance, depth, most, hands=10):
 def all_sets(many):
     return [list(hands) for size in range(many + 1)
             for hands in itertools.combinations(range(many), size)]
+
+
+def unit_line(width, place=0):
+    return tuple(int(k == place) for k in range(width))
+
+
+def lines_of(table, hands):
+    return [line for hand, line in table[2] if hand in hands]
+
+
+def opens_plainly(table, hands):
+    lines = lines_of(table, hands)
+    return rank(table[0], lines) == rank(table[0], lines + [unit_line(table[1])])
+
+
+def parts_plainly(table, filling):
+    return [square_sum(table[0], line, filling) for hand, line in table[2]]
+
+
+def some_table(seed, p, wide, many, hands=10):
+    """A table with rows of which some are alike, noughts, or sums of others."""
+    chance = random.Random(seed)
+    lines = some_lines(seed, p, wide, many)
+    if lines and chance.random() < 0.5:
+        # Else the wished line would seldom be a sum of few rows by a great p.
+        low = lines[chance.randrange(many)]
+        lines[-1] = ((low[0] + 1) % p,) + low[1:]
+    return (p, wide, tuple((chance.randrange(hands), line) for line in lines))
+
+
+def some_seen(chance, table, share=0.5):
+    """Parts of a filling of which some are kept back, and now and then one is spoilt."""
+    filling = tuple(chance.randrange(table[0]) for _ in range(table[1]))
+    seen = [part if chance.random() < share else None for part in parts_plainly(table, filling)]
+    if seen and chance.random() < 0.4:
+        seen[chance.randrange(len(seen))] = chance.randrange(table[0])
+    return seen

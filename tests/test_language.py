@@ -170,6 +170,17 @@ def def_faults(tree):
                 yield f"L10 {node.name} is too long"
 
 
+def shadow_faults(tree):
+    taken = [alias.name for node in tree.body if isinstance(node, ast.ImportFrom)
+             for alias in node.names]
+    taken += [node.name for node in tree.body if isinstance(node, ast.ClassDef)]
+    for node in tree.body:
+        if isinstance(node, (ast.FunctionDef, ast.ClassDef)):
+            for name in bound_names(ast.Module([node], []))[1:]:
+                if name in taken:
+                    yield f"L15 {name} is a class or an import of the file"
+
+
 def top_faults(tree):
     names = [name for part in tree.body if not isinstance(part, ast.Expr)
              for name in bound_names(ast.Module([part], []))[:1]]
@@ -189,7 +200,8 @@ def faults_of(text):
     for node in ast.walk(tree):
         for fault in [*statement_faults(node, tree, parents), *expression_faults(node, parents)]:
             faults.append(f"{fault} at line {getattr(node, 'lineno', '?')}")
-    return [*faults, *name_faults(tree), *def_faults(tree), *top_faults(tree)]
+    return [*faults, *name_faults(tree), *def_faults(tree), *shadow_faults(tree),
+            *top_faults(tree)]
 
 
 def drawn_from(text):
@@ -221,6 +233,11 @@ class Language(unittest.TestCase):
             self.assertTrue(free, draws)
             for name in free:
                 draws.pop(name)
+
+    def test_the_check_itself_finds_a_local_called_like_an_import(self):
+        text = '"""A file."""\n\nfrom fewopen.b import two\n\n\ndef one(a):\n    {} = a\n'
+        self.assertEqual(faults_of(text.replace("{}", "three")), [])
+        self.assertNotEqual(faults_of(text.replace("{}", "two")), [])
 
     def test_the_check_itself_finds_what_is_outside(self):
         inside = '"""A file."""\n\n\ndef two(a):\n    return [x + 1 for x in a]\n'
