@@ -2,6 +2,7 @@
 
 import itertools
 import random
+import unittest
 
 PRIMES = [2, 3, 5, 7, 11, 13, 17, 19, 23, 29, 31, 37, 41, 43, 47,
           53, 59, 61, 67, 71, 73, 79, 83, 89, 97]
@@ -104,3 +105,38 @@ def some_seen(chance, table, share=0.5):
     if seen and chance.random() < 0.4:
         seen[chance.randrange(len(seen))] = chance.randrange(table[0])
     return seen
+
+
+def some_filling(chance, table):
+    return tuple(chance.randrange(table[0]) for _ in range(table[1]))
+
+
+def some_numbers(chance, p, many):
+    return [chance.randrange(p) for _ in range(many)]
+
+
+def curve_plainly(p, curve, x):
+    return sum(number * x ** k for k, number in enumerate(curve)) % p
+
+
+class LinesCase(unittest.TestCase):
+    """Checks of multipliers and turns by the words of the document."""
+
+    def is_by_p(self, p, numbers):
+        for number in numbers:
+            self.assertIs(type(number), int)
+            self.assertTrue(0 <= number < p, number)
+
+    def are_multipliers(self, p, multipliers, lines, wished):
+        self.assertIs(type(multipliers), list)
+        self.assertEqual(len(multipliers), len(lines))
+        self.is_by_p(p, multipliers)
+        self.assertEqual(sum_of_lines(p, len(wished), multipliers, lines), wished)
+
+    def is_turn(self, p, wide, turn, lines):
+        self.assertIs(type(turn), tuple)
+        self.assertEqual(len(turn), wide)
+        self.is_by_p(p, turn)
+        self.assertEqual(turn[0], 1)
+        for line in lines:
+            self.assertEqual(square_sum(p, line, turn), 0)

@@ -6,32 +6,13 @@ from fewopen.errors import TooMany
 from fewopen.opening import opens, told
 from fewopen.rules import fits, read_rule, turned_rule
 from fewopen.tables import is_table, parts, table_of
-from helper import (PRIMES, all_lines, all_sets, lines_of, opens_plainly, parts_plainly, rank,
-                    some_rule, some_seen, some_table, square_sum, sum_of_lines, unit_line)
+from helper import (PRIMES, LinesCase, all_lines, all_sets, lines_of, opens_plainly, parts_plainly,
+                    rank, some_rule, some_seen, some_table, square_sum, unit_line)
 
 TWO = (11, 2, ((0, (1, 1)), (1, (1, 2))))
 
 
-class OpeningCase(unittest.TestCase):
-    def is_by_p(self, p, numbers):
-        for number in numbers:
-            self.assertIs(type(number), int)
-            self.assertTrue(0 <= number < p, number)
-
-    def are_multipliers(self, p, multipliers, lines, wished):
-        self.assertIs(type(multipliers), list)
-        self.assertEqual(len(multipliers), len(lines))
-        self.is_by_p(p, multipliers)
-        self.assertEqual(sum_of_lines(p, len(wished), multipliers, lines), wished)
-
-    def is_turn(self, p, wide, turn, lines):
-        self.assertIs(type(turn), tuple)
-        self.assertEqual(len(turn), wide)
-        self.is_by_p(p, turn)
-        self.assertEqual(turn[0], 1)
-        for line in lines:
-            self.assertEqual(square_sum(p, line, turn), 0)
-
+class OpeningCase(LinesCase):
     def check_opens(self, table, hands):
         p, wide = table[:2]
         answer = opens(table, hands)
